@@ -1,0 +1,1 @@
+"""Askrights: an archive that keeps exactly what may still be asked."""
