@@ -158,3 +158,26 @@ def total(factors, rows):
         for cell, number in one:
             weights[cell] = weights.get(cell, 0) + factor * number
     return tuple((cell, weights[cell]) for cell in sorted(weights) if weights[cell] != 0)
+
+
+def all_minors_gcd(matrix, size):
+    """The greatest common divisor of all minors of this size."""
+    result = 0
+    width = len(matrix[0]) if matrix else 0
+    for lines in combinations(matrix, size):
+        for columns in combinations(range(width), size):
+            result = gcd(result, determinant([[line[k] for k in columns] for line in lines]))
+    return result
+
+
+def some_data_has(rows, values):
+    """Whether integers can be the values of the cells: the minors must not change with the values beside them."""
+    matrix = matrix_of(rows, cells_in(*rows))
+    wider = [line + [value] for line, value in zip(matrix, values)]
+    rank = plain_rank(rows)
+    return (all_minors_gcd(wider, rank + 1) == 0
+            and all_minors_gcd(wider, rank) == all_minors_gcd(matrix, rank))
+
+
+def values_of(rows, data):
+    return tuple(effect(one, data) for one in rows)

@@ -1,0 +1,50 @@
+"""The names and arguments of the interface, each defined in its own file."""
+
+import ast
+import os
+import unittest
+
+from tests.test_language import PACKAGE
+
+FUNCTIONS = {
+    "kinds": ["is_integer(thing)", "is_number(thing)", "is_name(thing)", "is_cell(thing)", "is_row(thing)",
+              "are_rows(thing)", "is_fraction(thing)", "is_data(thing)"],
+    "rowsums": ["add_rows(one, other)", "scale_row(row, factor)", "part_of(row, *, last_day=None, accounts=None)",
+                "row_value(row, data)", "effect_of(change, row)"],
+    "bases": ["basis_of(rows)", "coordinates_in(rows, row)"],
+    "spans": ["rank_of(rows)", "in_span(rows, row)"],
+    "answerpapers": ["answer_paper(rows, question)"],
+    "answerchecker": ["lets_answer(rows, question, thing)"],
+    "moduli": ["modulus_of(rows, question)", "possible_values(rows, values, question)"],
+    "valuepapers": ["value_paper(rows, values, question)"],
+    "valuechecker": ["lets_value(rows, values, question, thing)"],
+    "smallest": ["smallest_paper(rows)"],
+    "smallestchecker": ["lets_smallest(rows, thing)"],
+    "rowtexts": ["row_text(row)", "rows_text(rows)"],
+    "rowreadings": ["row_read(text, *, line=0)", "rows_read(text)"],
+}
+
+CLASSES = {"errors": ["AskError", "PaperError", "ArchiveError", "TextError", "InvalidPaper", "InvalidStep",
+                      "NotAnswerable", "UnknownName", "NothingToUndo", "InvalidText", "InvalidCommand"]}
+
+
+def body_of(module):
+    with open(os.path.join(PACKAGE, module + ".py"), encoding="utf-8") as source:
+        return ast.parse(source.read()).body
+
+
+class Interface(unittest.TestCase):
+    def test_functions(self):
+        for module, signatures in FUNCTIONS.items():
+            defined = [node.name + "(" + ast.unparse(node.args) + ")" for node in body_of(module)
+                       if isinstance(node, ast.FunctionDef)]
+            for signature in signatures:
+                self.assertIn(signature, defined)
+
+    def test_classes(self):
+        for module, names in CLASSES.items():
+            self.assertEqual([node.name for node in body_of(module) if isinstance(node, ast.ClassDef)], names)
+
+
+if __name__ == "__main__":
+    unittest.main()
