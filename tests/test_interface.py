@@ -22,6 +22,14 @@ FUNCTIONS = {
     "smallestchecker": ["lets_smallest(rows, thing)"],
     "rowtexts": ["row_text(row)", "rows_text(rows)"],
     "rowreadings": ["row_read(text, *, line=0)", "rows_read(text)"],
+    "rightkinds": ["is_right(thing)", "is_step(thing)", "is_archive(thing)"],
+    "questions": ["question_on(right, day)"],
+    "futures": ["future_rows(rights, day)", "needed_rows(rights, day)"],
+    "archives": ["first_archive(accounts, *, today=0)", "archive_rows(archive)"],
+    "archivechecker": ["lets_archive(thing)"],
+    "steps": ["barred_by(archive, step)", "done(archive, step)"],
+    "evenings": ["shown_by(archive)", "keep_of(rights, data, day)"],
+    "histories": ["archives_of(history)", "data_of(history)", "shown_in(history)"],
 }
 
 CLASSES = {"errors": ["AskError", "PaperError", "ArchiveError", "TextError", "InvalidPaper", "InvalidStep",
