@@ -1,9 +1,9 @@
 """The checker of answer papers. It computes sums only."""
 
 from askrights.errors import InvalidPaper
-from askrights.fractionsums import row_sum
+from askrights.fractionsums import gives_row
 from askrights.kinds import are_fractions, is_pair, is_row
-from askrights.rowsums import effect_of, first_noticing, scale_row
+from askrights.rowsums import effect_of, first_noticing
 
 
 def has_answer_shape(thing):
@@ -17,8 +17,7 @@ def check_answer(rows, question, fractions):
     """Raise InvalidPaper if the sum of fraction times row is not the question."""
     if len(fractions) != len(rows):
         raise InvalidPaper("many", -1)
-    total, denominator = row_sum(fractions, rows)
-    if total != scale_row(question, denominator):
+    if not gives_row(fractions, rows, question):
         raise InvalidPaper("sum", -1)
 
 

@@ -26,6 +26,12 @@ def row_sum(fractions, rows):
     return total, denominator
 
 
+def gives_row(fractions, rows, row):
+    """Return whether the sum of fraction times row is this row."""
+    total, denominator = row_sum(fractions, rows)
+    return total == scale_row(row, denominator)
+
+
 def number_sum(fractions, numbers):
     """Return (total, denominator): the sum of fraction times number is the total over the denominator."""
     denominator = common_denominator(fractions)

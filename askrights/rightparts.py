@@ -7,6 +7,12 @@ def with_weights(right, weights):
     return (person, tuple(weights), first, last, kind)
 
 
+def with_last(right, last):
+    """Return the right with another last day of use."""
+    person, weights, first, old, kind = right
+    return (person, weights, first, last, kind)
+
+
 def halves_of(right, accounts):
     """Return the left half and the right half of the right for these accounts; one may have no weights."""
     left = [(account, weight) for account, weight in right[1] if account in accounts]

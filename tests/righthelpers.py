@@ -2,6 +2,7 @@
 
 import random
 
+from askrights.histories import archives_of
 from tests.helpers import SUM, plain_rank
 
 SIXTY = 10 ** 60 - 1
@@ -218,3 +219,28 @@ def random_history(seed, many=40, last_today=10, most_rights=6):
         if word is None:
             plain.do(step)
     return plain.accounts, tried
+
+
+def sample_archives(seeds, each=3):
+    """Archives of random histories, with a source of further choices."""
+    for seed in seeds:
+        source = random.Random(seed)
+        accounts, tried = random_history(seed)
+        archives = archives_of((accounts, tuple(step for step, word in tried if word is None)))
+        for archive in source.sample(archives, min(each, len(archives))):
+            yield archive, source
+
+
+def renamed(archive, accounts, names):
+    """The archive with other names of accounts and rights."""
+    account_of, name_of = dict(accounts), dict(names)
+
+    def weights(pairs):
+        return tuple(sorted((account_of[account], number) for account, number in pairs))
+
+    def row(pairs):
+        return tuple(sorted(((account_of[account], day), number) for (account, day), number in pairs))
+
+    rights = tuple(sorted((name_of[name], right[:1] + (weights(right[1]),) + right[2:]) for name, right in archive[2]))
+    kept = tuple((row(one), value) for one, value in archive[3])
+    return (tuple(sorted(account_of[account] for account in archive[0])), archive[1], rights, kept, weights(archive[4]))

@@ -30,6 +30,15 @@ FUNCTIONS = {
     "steps": ["barred_by(archive, step)", "done(archive, step)"],
     "evenings": ["shown_by(archive)", "keep_of(rights, data, day)"],
     "histories": ["archives_of(history)", "data_of(history)", "shown_in(history)"],
+    "merging": ["merge_bar(one, other)", "merged(one, other)", "split_bar(archive, accounts)",
+                "split_archive(archive, accounts)"],
+    "answering": ["can_answer(archive, row)", "answer_from(archive, row)"],
+    "requests": ["request_rows(archive, right)", "request_paper(archive, right)"],
+    "requestchecker": ["lets_request(archive, right, thing)"],
+    "costs": ["cost_of(rights, day)", "cost_over(rights, first, last)", "increments_of(rights, order, day)",
+              "extension_price(rights, name, last, *, today=0)"],
+    "shares": ["fair_shares(rights, day)", "shares_paper(rights, day, shares)"],
+    "sharechecker": ["lets_shares(rights, day, shares, thing)"],
 }
 
 CLASSES = {"errors": ["AskError", "PaperError", "ArchiveError", "TextError", "InvalidPaper", "InvalidStep",
