@@ -4,14 +4,6 @@ from askrights.futures import future_rows
 from askrights.spans import rank_of
 
 
-def subsets_of(items):
-    """Return the lists of some of the items, the shorter ones first; each has the items in their order."""
-    subsets = [[]]
-    for item in items:
-        subsets = subsets + [subset + [item] for subset in subsets]
-    return sorted(subsets, key=len)
-
-
 class CostTable:
     """The costs of some of the rights on a day. Each set of names is computed only once."""
 

@@ -27,3 +27,8 @@ def question_on(right, day):
         return None
     low, high = asked_days(right, day)
     return row_on_days(right, low, high)
+
+
+def questions_from(right, today):
+    """Return the list of the questions of the right on its days of use from today on."""
+    return [question_on(right, day) for day in range(max(right[2], today), right[3] + 1)]

@@ -1,8 +1,9 @@
 """Fair shares of the cost, and papers that show whether shares are fair."""
 
 from askrights.arithmetic import lowest
-from askrights.costtables import CostTable, subsets_of
+from askrights.costtables import CostTable
 from askrights.mixtures import mixture_of, point_of, room_of
+from askrights.subsets import subsets_of
 
 
 def factorial(number):

@@ -39,6 +39,13 @@ FUNCTIONS = {
               "extension_price(rights, name, last, *, today=0)"],
     "shares": ["fair_shares(rights, day)", "shares_paper(rights, day, shares)"],
     "sharechecker": ["lets_shares(rights, day, shares, thing)"],
+    "endings": ["least_endings(rights, day, most)", "fewest_endings(rights, day, most)"],
+    "endingpapers": ["ending_paper(rights, day, most)", "ending_tree(rights, day, most, size)"],
+    "endingchecker": ["lets_ending(rights, day, most, thing)", "lets_ending_tree(rights, day, most, size, thing)"],
+    "knowing": ["known_rows(history, group)", "rows_to_come(rights, today, group)", "knows(history, group, question)"],
+    "walls": ["wall_has_form(thing)", "stands(rows, question, m)", "first_fall(history, walls, *, request=None)"],
+    "wallpapers": ["wall_paper(rows, question, m)"],
+    "wallchecker": ["wall_lets(rows, question, m, thing)"],
 }
 
 CLASSES = {"errors": ["AskError", "PaperError", "ArchiveError", "TextError", "InvalidPaper", "InvalidStep",
