@@ -52,11 +52,8 @@ def halved(archive, name, accounts, fresh_names):
     return with_rights(archive, [name], list(zip(fresh_names, halves)))
 
 
-def done(archive, step):
-    """Return the archive after the step; raise InvalidStep if it is barred."""
-    reason = barred_by(archive, step)
-    if reason is not None:
-        raise InvalidStep(step, reason)
+def after_step(archive, step):
+    """Return the archive after a step that is not barred."""
     word = step[0]
     if word == "enter":
         return entered(archive, step[1], step[2])
@@ -69,3 +66,11 @@ def done(archive, step):
     if word == "halve":
         return halved(archive, step[1], step[2], step[3:])
     return after_evening(archive)
+
+
+def done(archive, step):
+    """Return the archive after the step; raise InvalidStep if it is barred."""
+    reason = barred_by(archive, step)
+    if reason is not None:
+        raise InvalidStep(step, reason)
+    return after_step(archive, step)

@@ -26,11 +26,16 @@ def stands(rows, question, m):
     return hides(modulus_of(rows, question), m)
 
 
+def is_standing(wall, shown, rights, today):
+    """Return whether the wall stands, given the shown answers and the questions of the rights from today on."""
+    group, question, m = wall
+    return stands(rows_shown(shown, group) + rows_to_come(rights, today, group), question, m)
+
+
 def first_falling(walls, shown, rights, today):
-    """Return the name of the first wall that falls, given the shown answers and the rights from today on, or None."""
-    for name, (group, question, m) in walls:
-        rows = rows_shown(shown, group) + rows_to_come(rights, today, group)
-        if not stands(rows, question, m):
+    """Return the name of the first of the walls (name, wall) that falls, or None."""
+    for name, wall in walls:
+        if not is_standing(wall, shown, rights, today):
             return name
     return None
 

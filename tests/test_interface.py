@@ -46,10 +46,32 @@ FUNCTIONS = {
     "walls": ["wall_has_form(thing)", "stands(rows, question, m)", "first_fall(history, walls, *, request=None)"],
     "wallpapers": ["wall_paper(rows, question, m)"],
     "wallchecker": ["wall_lets(rows, question, m, thing)"],
+    "giving": ["rows_left(rights, today, known, wall, names)", "sets_to_end(rights, today, known, wall)",
+               "fewest_to_end(rights, today, known, wall)"],
+    "givingpapers": ["give_paper(rights, today, known, wall)", "fewest_paper(rights, today, known, wall)"],
+    "givingchecker": ["lets_give(rights, today, known, wall, thing)", "lets_fewest(rights, today, known, wall, thing)"],
+    "replaying": ["is_log(thing)", "replayed(log)"],
+    "rowlines": ["step_line(step)", "log_lines(log)"],
+    "linereadings": ["read_step(text)", "read_log(lines)"],
 }
 
 CLASSES = {"errors": ["AskError", "PaperError", "ArchiveError", "TextError", "InvalidPaper", "InvalidStep",
-                      "NotAnswerable", "UnknownName", "NothingToUndo", "InvalidText", "InvalidCommand"]}
+                      "NotAnswerable", "UnknownName", "NothingToUndo", "InvalidText", "InvalidCommand"],
+           "worlds": ["World"], "desk": ["Desk"]}
+
+METHODS = {
+    "worlds": ["__init__(self)", "__eq__(self, other)", "__len__(self)", "__str__(self)", "open_archive(self, archive, accounts)",
+               "enter_amount(self, account, amount)", "correct_cell(self, account, day, difference)", "evening(self)",
+               "grant_right(self, name, right)", "end_right(self, name)", "halve_right(self, name, accounts, left, right)",
+               "merge_archives(self, one, other, fresh)", "split_into(self, archive, accounts, left, right)",
+               "wall_off(self, name, group, question, m)", "take_down(self, name)", "go(self, step)", "bars_now(self, step)",
+               "falls_by(self, step)", "day_now(self)", "archive_names(self)", "right_names(self)", "archive_named(self, name)",
+               "walls_now(self)", "data_now(self)", "answers_shown(self)", "answer_now(self, question)", "known_now(self, group)",
+               "knows_now(self, group, question)", "stands_now(self, group, question, m)", "cost_now(self, archive)",
+               "shares_now(self, archive)", "endings_now(self, archive, most)", "givings_now(self, group, question, m)",
+               "log(self)", "undo(self)", "do_all(self, steps, *, keep=False)", "counts(self)"],
+    "desk": ["__init__(self)", "say(self, text)", "counts(self)"],
+}
 
 
 def body_of(module):
@@ -62,6 +84,14 @@ class Interface(unittest.TestCase):
         for module, signatures in FUNCTIONS.items():
             defined = [node.name + "(" + ast.unparse(node.args) + ")" for node in body_of(module)
                        if isinstance(node, ast.FunctionDef)]
+            for signature in signatures:
+                self.assertIn(signature, defined)
+
+    def test_methods(self):
+        for module, signatures in METHODS.items():
+            made = [node for node in body_of(module) if isinstance(node, ast.ClassDef)][0]
+            self.assertEqual(made.bases, [])
+            defined = [node.name + "(" + ast.unparse(node.args) + ")" for node in made.body if isinstance(node, ast.FunctionDef)]
             for signature in signatures:
                 self.assertIn(signature, defined)
 
