@@ -135,4 +135,6 @@ def words_read(readers, words):
         if value is None:
             return values, at
         values.append(value)
-    return values, None if len(values) == len(readers) else len(values)
+    if len(values) < len(readers):
+        return values, len(values)
+    return values, None

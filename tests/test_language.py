@@ -154,6 +154,32 @@ class Language(unittest.TestCase):
                 if isinstance(node, ast.ImportFrom):
                     self.assertEqual({alias.name for alias in node.names} - used, set(), name)
 
+    def test_only_own_errors_are_caught(self):
+        own = {node.name for name, node in self.nodes() if isinstance(node, ast.ClassDef)}
+        for name, node in self.nodes():
+            if isinstance(node, ast.ExceptHandler):
+                self.assertIn(node.type.id, own, name)
+            if isinstance(node, ast.Raise) and node.exc is not None:
+                self.assertIn(node.exc.func.id, own, name)
+
+    def test_finally_counts_only(self):
+        for name, node in self.nodes():
+            if isinstance(node, ast.Try):
+                for statement in node.finalbody:
+                    self.assertRegex(ast.unparse(statement), r"\Aself\.[a-z]+ \+= 1\Z", name)
+
+    def test_special_methods(self):
+        found = []
+        for name, node in self.nodes():
+            if isinstance(node, ast.FunctionDef) and node.name in ("__eq__", "__len__", "__str__", "__repr__"):
+                found.append((name, node.name))
+                returned = [ast.unparse(one.value) for one in ast.walk(node) if isinstance(one, ast.Return)]
+                forms = {"__eq__": r"isinstance\(other, [A-Z]\w+\) and self\.(\w+) == other\.\1", "__len__": r"len\(.*\)"}
+                for text in returned:
+                    self.assertIsNotNone(re.fullmatch(forms.get(node.name, r"'[^']*'|'[^']*'\.join\(.*\)"), text), (name, text))
+                self.assertIsInstance(node.body[-1], ast.Return)
+        self.assertEqual(sorted(found), [("worlds.py", "__eq__"), ("worlds.py", "__len__"), ("worlds.py", "__str__")])
+
     def test_no_name_is_a_method_and_an_attribute(self):
         methods, attributes = set(), set()
         for name, node in self.nodes():

@@ -265,6 +265,7 @@ class Barred(unittest.TestCase):
         self.barred(bound, ("split", "main", ("a",), "p", "p"), "right")
         self.barred(bound, ("split", "main", ("a", "d"), "p", "p"), "right")
         self.free(bound, ("split", "main", ("a", "b"), "p", "q"))
+        self.barred(world_of(*bound.log(), ("evening",)), ("split", "main", ("a",), "p", "p"), "right")
         kept = world_of(*bound.log(), ("evening",), ("end", "r"))
         self.barred(kept, ("split", "main", ("a",), "p", "p"), "kept")
         kept.evening()
